@@ -1,0 +1,1 @@
+"""Runners who pass one another and change marks by a table."""

@@ -1,0 +1,61 @@
+"""What a table lacks to be THREE, TWICE, ONE-ONE or SIDED; None where it lacks nothing."""
+
+from passmarks.tables import pass_done
+
+
+def three_fault(table):
+    """The least three marks of which passes at 0, 1, 0 and at 1, 0, 1 make unlike rows."""
+    marks = table.marks()
+    for x in marks:
+        for y in marks:
+            for z in marks:
+                row = (x, y, z)
+                if _turned(table, row, 0, 1) != _turned(table, row, 1, 0):
+                    return row
+    return None
+
+
+def twice_fault(table):
+    """The least two marks that a pass and the same again make others."""
+    for pair in _all_pairs(table):
+        behind = table.passed(*pair)
+        if table.passed(*behind) != pair:
+            return pair
+    return None
+
+
+def one_fault(table):
+    """The least two pairs, the lesser one first, that come to one pair."""
+    pairs = _all_pairs(table)
+    for at, lesser in enumerate(pairs):
+        for greater in pairs[at + 1:]:
+            if table.passed(*lesser) == table.passed(*greater):
+                return (lesser, greater)
+    return None
+
+
+def sided_fault(table):
+    """The side on which a held mark makes two unlike ones one, the held mark, and the two."""
+    marks = table.marks()
+    twos = [(one, other) for at, one in enumerate(marks) for other in marks[at + 1:]]
+    for held in marks:
+        for one, other in twos:
+            if table.passed(one, held)[1] == table.passed(other, held)[1]:
+                return ("second", held, one, other)
+    for held in marks:
+        for one, other in twos:
+            if table.passed(held, one)[0] == table.passed(held, other)[0]:
+                return ("first", held, one, other)
+    return None
+
+
+def _all_pairs(table):
+    marks = table.marks()
+    return [(x, y) for x in marks for y in marks]
+
+
+def _turned(table, row, place, other):
+    """The row behind passes at the place, at the other one, and at the place again."""
+    row = pass_done(table, row, place)
+    row = pass_done(table, row, other)
+    return pass_done(table, row, place)

@@ -1,0 +1,45 @@
+"""Each name of the interface is defined in its own file, with its arguments."""
+
+import ast
+import pathlib
+import unittest
+
+PACKAGE = pathlib.Path(__file__).resolve().parent.parent / "passmarks"
+
+FUNCTIONS = {
+    "names": {"is_name": "thing"},
+    "faults": {"three_fault": "table", "twice_fault": "table", "one_fault": "table", "sided_fault": "table"},
+}
+METHODS = {
+    ("tables", "Table"): {"__init__": "self marks pairs", "__eq__": "self other", "marks": "self", "pairs": "self",
+                          "passed": "self one other"},
+}
+
+
+def defined(name):
+    """The functions and classes that stand at the file's own level."""
+    tree = ast.parse((PACKAGE / (name + ".py")).read_text())
+    return {node.name: node for node in tree.body if isinstance(node, (ast.FunctionDef, ast.ClassDef))}
+
+
+def told(function):
+    return " ".join(part.arg for part in function.args.args)
+
+
+class Interface(unittest.TestCase):
+    def test_functions(self):
+        for file, functions in FUNCTIONS.items():
+            there = defined(file)
+            for name, arguments in functions.items():
+                self.assertEqual(told(there[name]), arguments, name)
+                self.assertEqual(there[name].args.defaults, [])
+
+    def test_methods(self):
+        for (file, name), methods in METHODS.items():
+            body = {node.name: node for node in defined(file)[name].body if isinstance(node, ast.FunctionDef)}
+            for method, arguments in methods.items():
+                self.assertEqual(told(body[method]), arguments, method)
+
+
+if __name__ == "__main__":
+    unittest.main()
