@@ -9,6 +9,12 @@ PACKAGE = pathlib.Path(__file__).resolve().parent.parent / "passmarks"
 FUNCTIONS = {
     "names": {"is_name": "thing"},
     "faults": {"three_fault": "table", "twice_fault": "table", "one_fault": "table", "sided_fault": "table"},
+    "passes": {"row_behind": "table row word", "rows_on": "table row word"},
+    "orders": {"order_of": "places word", "joined": "one other", "undone": "order"},
+    "words": {"is_short": "places word", "who_pass": "places word", "told_form": "order"},
+    "shortwords": {"many_short": "order", "short_at": "order number", "short_number": "order word"},
+    "apart": {"short_parting": "table places", "any_parting": "table places",
+              "shows_short_parting": "table thing", "shows_parting": "table thing"},
 }
 METHODS = {
     ("tables", "Table"): {"__init__": "self marks pairs", "__eq__": "self other", "marks": "self", "pairs": "self",

@@ -65,7 +65,7 @@ def anything():
         "", "a", "b", "ab", "z", "A", "a b", "marks", "0", "abcdefgh", "abcdefghi",
         None, True, False,
         (), [], {}, (0,), [0], (1, 0), [1, 0], ("a",), ["a"], ("a", "b"), ["a", "b"],
-        (0, "a"), [None], (True,), (False,), [True, False], ((),), [[]], ({},),
+        (None, 0), [None], (True,), (False,), [True, False], ((),), [[]], ({},),
         {"a": 1}, {0: [1]}, {(0, 1): ("a",)}, [{"a": [(), {}]}],
         nested(9), nested(10),
         exchange(1), exchange(2), [exchange(1)], (exchange(1),), {"a": exchange(1)},
