@@ -1,5 +1,6 @@
 """What a table lacks to be THREE, TWICE, ONE-ONE or SIDED; None where it lacks nothing."""
 
+from passmarks.errors import NotSided, NotThree, NotTwice
 from passmarks.tables import pass_done
 
 
@@ -47,6 +48,24 @@ def sided_fault(table):
             if table.passed(held, one)[0] == table.passed(held, other)[0]:
                 return ("first", held, one, other)
     return None
+
+
+def refuse_unless_sided(table):
+    """What is told of plain rows by a plain table is refused of all tables that aren't THREE and SIDED."""
+    fault = three_fault(table)
+    if fault is not None:
+        raise NotThree(fault)
+    fault = sided_fault(table)
+    if fault is not None:
+        raise NotSided(fault)
+
+
+def refuse_unless_gentle(table):
+    """What is told of lots is refused of all tables that aren't THREE, SIDED and TWICE."""
+    refuse_unless_sided(table)
+    fault = twice_fault(table)
+    if fault is not None:
+        raise NotTwice(fault)
 
 
 def _all_pairs(table):

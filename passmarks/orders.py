@@ -24,3 +24,19 @@ def undone(order):
     """The order that undoes an order."""
     runners = order_taken(order)
     return tuple([runners.index(runner) for runner in range(len(runners))])
+
+
+def rings(order):
+    """The rings of an order: in each a runner, then the one who stands at its place, and so on."""
+    found = []
+    met = {}
+    for first in order:
+        ring = []
+        runner = first
+        while runner not in met:
+            met[runner] = True
+            ring.append(runner)
+            runner = order[runner]
+        if ring:
+            found.append(ring)
+    return found

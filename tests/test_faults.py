@@ -3,7 +3,8 @@ from itertools import product
 
 from passmarks.faults import one_fault, sided_fault, three_fault, twice_fault
 from passmarks.tables import Table
-from tests.things import exchange, ringed, second_given, standing, swap_unlike_first, table_of, two_mark_tables
+from tests.things import (exchange, remarked, ringed, second_given, standing, swap_unlike_first, table_of,
+                          two_mark_tables)
 
 
 def passes(table, row, places):
@@ -43,11 +44,6 @@ def told(table):
     return three_fault(table), twice_fault(table), one_fault(table), sided_fault(table)
 
 
-def turned_marks(table, marks):
-    """The same passes, with the marks told in another order."""
-    return table_of(marks, table.passed)
-
-
 class Faults(unittest.TestCase):
     def test_no_fault(self):
         for many in range(1, 7):
@@ -81,10 +77,10 @@ class Faults(unittest.TestCase):
 
     def test_by_the_order_of_the_marks(self):
         table = second_given()
-        self.assertEqual(twice_fault(turned_marks(table, ["b", "a"])), ("b", "a"))
-        self.assertEqual(one_fault(turned_marks(table, ["b", "a"])), (("b", "b"), ("a", "b")))
-        self.assertEqual(sided_fault(turned_marks(table, ["b", "a"])), ("second", "b", "b", "a"))
-        self.assertEqual(three_fault(turned_marks(swap_unlike_first(), ["b", "a"])), ("b", "b", "b"))
+        self.assertEqual(twice_fault(remarked(table, ["b", "a"])), ("b", "a"))
+        self.assertEqual(one_fault(remarked(table, ["b", "a"])), (("b", "b"), ("a", "b")))
+        self.assertEqual(sided_fault(remarked(table, ["b", "a"])), ("second", "b", "b", "a"))
+        self.assertEqual(three_fault(remarked(swap_unlike_first(), ["b", "a"])), ("b", "b", "b"))
 
     def test_like_marks_pass_one_another_too(self):
         table = table_of(["a", "b"], lambda x, y: ("b", "a") if (x, y) == ("b", "b") else (y, x))
@@ -94,7 +90,7 @@ class Faults(unittest.TestCase):
     def test_all_tables_of_two_marks(self):
         seen = set()
         for table in two_mark_tables():
-            for one in (table, turned_marks(table, ["b", "a"])):
+            for one in (table, remarked(table, ["b", "a"])):
                 self.assertEqual(told(one), by_hand(one))
             seen.add(tuple(fault is None for fault in told(table)))
         self.assertGreater(len(seen), 8)

@@ -15,6 +15,14 @@ FUNCTIONS = {
     "shortwords": {"many_short": "order", "short_at": "order number", "short_number": "order word"},
     "apart": {"short_parting": "table places", "any_parting": "table places",
               "shows_short_parting": "table thing", "shows_parting": "table thing"},
+    "ladders": {"rung_done": "places word rung", "ladder": "places one other"},
+    "ladderlooks": {"shows_ladder": "places one other thing *short=False",
+                    "first_unkept": "table row word rungs"},
+    "plainrows": {"plain": "table row", "plain_table": "table", "row_of_plain": "table row"},
+    "lots": {"same_lot": "table one other", "fewest": "table one other", "shows_fewest": "table one other thing"},
+    "numbers": {"lot_size": "table row", "number_of": "table row", "row_at": "table row number",
+                "lots_of": "table places", "left_by": "table places word"},
+    "leavers": {"leaving": "table row", "makers": "table row", "shows_makers": "table row thing"},
 }
 METHODS = {
     ("tables", "Table"): {"__init__": "self marks pairs", "__eq__": "self other", "marks": "self", "pairs": "self",
@@ -29,7 +37,10 @@ def defined(name):
 
 
 def told(function):
-    return " ".join(part.arg for part in function.args.args)
+    """The arguments, those that are handed in by names alone behind a star, with what they are when left out."""
+    parts = function.args
+    named = [f"*{part.arg}={ast.unparse(default)}" for part, default in zip(parts.kwonlyargs, parts.kw_defaults)]
+    return " ".join([part.arg for part in parts.posonlyargs + parts.args] + named)
 
 
 class Interface(unittest.TestCase):

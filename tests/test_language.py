@@ -7,6 +7,7 @@ import re
 import unittest
 
 PACKAGE = pathlib.Path(__file__).resolve().parent.parent / "passmarks"
+LIBRARY = {"math": {"gcd", "lcm", "isqrt", "comb", "perm", "factorial"}}
 BUILTINS = set(
     "len range enumerate zip min max sum abs sorted reversed int str bool list tuple dict set isinstance ord repr"
     " any all divmod ValueError KeyError IndexError LookupError ArithmeticError RuntimeError".split())
@@ -36,7 +37,8 @@ def imports():
     """Of each file the files that it imports from."""
     taken = {file.stem: set() for file in files()}
     for file, node in nodes(ast.ImportFrom):
-        taken[file.stem].add(node.module.split(".")[1])
+        if node.module not in LIBRARY:
+            taken[file.stem].add(node.module.split(".")[1])
     return taken
 
 
@@ -57,13 +59,24 @@ class Files(unittest.TestCase):
 
     def test_imports(self):
         for file, node in nodes(ast.ImportFrom):
+            self.assertTrue(all(name.asname is None for name in node.names), file)
+            if node.module in LIBRARY:
+                self.assertLessEqual({name.name for name in node.names}, LIBRARY[node.module], file)
+                continue
             self.assertRegex(node.module, r"^passmarks\.[a-z]+$")
             body = ast.parse((PACKAGE / (node.module.split(".")[1] + ".py")).read_text()).body
             there = {part.name for part in body if isinstance(part, (ast.FunctionDef, ast.ClassDef))}
             there |= {part.targets[0].id for part in body if isinstance(part, ast.Assign)}
             for name in node.names:
                 self.assertIn(name.name, there, file)
-                self.assertIsNone(name.asname)
+
+    def test_what_is_imported_has_no_other_meaning(self):
+        for file, tree in trees():
+            taken = {name.name for node in ast.walk(tree) if isinstance(node, ast.ImportFrom) for name in node.names}
+            bound = [node.arg for node in ast.walk(tree) if isinstance(node, ast.arg)]
+            bound += [node.id for node in ast.walk(tree) if isinstance(node, ast.Name) and
+                      isinstance(node.ctx, ast.Store)]
+            self.assertEqual(taken & set(bound), set(), file)
 
     def test_no_two_files_import_one_another(self):
         left = imports()

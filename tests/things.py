@@ -1,6 +1,8 @@
 """Tables and other things that the tests hand in."""
 
-from itertools import product
+import unittest
+from functools import lru_cache
+from itertools import permutations, product
 
 from passmarks.errors import NoMark, NotAlike
 from passmarks.tables import Table
@@ -49,6 +51,82 @@ def two_mark_tables():
     """All 256 tables of the marks a and b."""
     pairs = list(product("ab", repeat=2))
     return [Table("a b".split(), [list(four[:2]), list(four[2:])]) for four in product(pairs, repeat=4)]
+
+
+def remarked(table, marks):
+    """The same passes, with the marks told in another order."""
+    return table_of(marks, table.passed)
+
+
+def crossing():
+    """Gentle: a and b exchange one another where they meet c, which stays; told in the order c, a, b."""
+    other = {"a": "b", "b": "a", "c": "c"}
+    return table_of(["c", "a", "b"], lambda x, y: (other[y] if x == "c" else y, other[x] if y == "c" else x))
+
+
+def mirrored():
+    """THREE and SIDED, not TWICE: a mark that is passed by another one becomes the third."""
+    return table_of(["a", "b", "c"], lambda x, y: (y if x == y else "abc".strip(x + y), x))
+
+
+def summed(many):
+    """SIDED, but neither THREE nor TWICE: who is passed is moved along a ring by the number of who passes."""
+    marks = letters(many)
+    return table_of(marks, lambda x, y: (marks[(marks.index(x) + marks.index(y)) % many], x))
+
+
+@lru_cache(maxsize=None)
+def sided_threes():
+    """All tables of the marks a, b, c that are THREE and SIDED, found by going through all that are SIDED."""
+    ways = list(product(permutations("abc"), repeat=3))
+    found = []
+    for firsts in ways:
+        for seconds in ways:
+            passed = {(x, y): (firsts[at][to], seconds[to][at])
+                      for at, x in enumerate("abc") for to, y in enumerate("abc")}
+            if all(turned(passed, row) for row in product("abc", repeat=3)):
+                found.append(table_of(["a", "b", "c"], lambda x, y: passed[x, y]))
+    return found
+
+
+def turned(passed, row):
+    """Whether passes at 0, 1, 0 and at 1, 0, 1 make one row of it."""
+    x, y, z = row
+    one, two = passed[x, y]
+    two, three = passed[two, z]
+    four, five = passed[y, z]
+    six, four = passed[x, four]
+    return passed[one, two] + (three,) == (six,) + passed[four, five]
+
+
+@lru_cache(maxsize=None)
+def gentle_threes():
+    """All tables of the marks a, b, c that are gentle."""
+    return [table for table in sided_threes()
+            if all(table.passed(*table.passed(*pair)) == pair for pair in product("abc", repeat=2))]
+
+
+def far_by_going(table, row):
+    """All rows that passes lead a row to, with the fewest passes, gone pass by pass."""
+    pairs = {(x, y): table.passed(x, y) for x in table.marks() for y in table.marks()}
+    far, left = {row: 0}, [row]
+    for now in left:
+        for place in range(len(row) - 1):
+            behind = now[:place] + pairs[now[place:place + 2]] + now[place + 2:]
+            if behind not in far:
+                far[behind] = far[now] + 1
+                left.append(behind)
+    return far
+
+
+class Refusing(unittest.TestCase):
+    """Tests that ask which refusal is raised, with what in it."""
+
+    def refused(self, error, call, *arguments, **named):
+        with self.assertRaises(error.__class__) as caught:
+            call(*arguments, **named)
+        self.assertIs(caught.exception.__class__, error.__class__)
+        self.assertEqual(repr(vars(caught.exception)), repr(vars(error)))
 
 
 def nested(depth):
