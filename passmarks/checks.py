@@ -1,11 +1,11 @@
 """What is asked of things that are handed in, whatever they are.
 
 A fault is where a thing is wrong, -1 where it is wrong as a whole, None where it is right.
-What is taken is a tuple, or a number, that is right; else it is refused.
+What is taken is a tuple, a number or a mark that is right; else it is refused.
 """
 
 from passmarks.bounds import PLACES, WORD
-from passmarks.errors import NoNumber, NoOrder, NoRow, NoWord
+from passmarks.errors import NoMark, NoNumber, NoOrder, NoRow, NoWord
 
 
 def is_listing(thing):
@@ -57,6 +57,12 @@ def number_taken(thing, least, most):
 
 def places_taken(thing):
     return number_taken(thing, 1, PLACES)
+
+
+def mark_taken(table, thing):
+    if thing not in table.marks():
+        raise NoMark(thing)
+    return thing
 
 
 def row_taken(table, row):

@@ -1,7 +1,7 @@
 """What a table lacks to be THREE, TWICE, ONE-ONE or SIDED; None where it lacks nothing."""
 
 from passmarks.errors import NotSided, NotThree, NotTwice
-from passmarks.tables import pass_done
+from passmarks.tables import all_pairs, pass_done
 
 
 def three_fault(table):
@@ -18,7 +18,7 @@ def three_fault(table):
 
 def twice_fault(table):
     """The least two marks that a pass and the same again make others."""
-    for pair in _all_pairs(table):
+    for pair in all_pairs(table):
         behind = table.passed(*pair)
         if table.passed(*behind) != pair:
             return pair
@@ -27,7 +27,7 @@ def twice_fault(table):
 
 def one_fault(table):
     """The least two pairs, the lesser one first, that come to one pair."""
-    pairs = _all_pairs(table)
+    pairs = all_pairs(table)
     for at, lesser in enumerate(pairs):
         for greater in pairs[at + 1:]:
             if table.passed(*lesser) == table.passed(*greater):
@@ -66,11 +66,6 @@ def refuse_unless_gentle(table):
     fault = twice_fault(table)
     if fault is not None:
         raise NotTwice(fault)
-
-
-def _all_pairs(table):
-    marks = table.marks()
-    return [(x, y) for x in marks for y in marks]
 
 
 def _turned(table, row, place, other):

@@ -64,7 +64,7 @@ def _has_form(places, word, rung):
         return False
     if rung[0] == "in":
         return len(rung) == 3 and is_number(rung[2], 0, places - 2)
-    return len(rung) == 2 and rung[0] in ("far", "turn", "out")
+    return len(rung) == 2
 
 
 def _are_far(passes):

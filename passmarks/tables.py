@@ -42,6 +42,19 @@ def pass_done(table, row, place):
     return row[:place] + table.passed(row[place], row[place + 1]) + row[place + 2:]
 
 
+def all_pairs(table):
+    """All pairs of marks, rising by the marks' order."""
+    marks = table.marks()
+    return [(x, y) for x in marks for y in marks]
+
+
+def rising(table, rows):
+    """The rows, rising by the marks' order."""
+    marks = table.marks()
+    numbered = sorted([tuple([marks.index(mark) for mark in row]) for row in rows])
+    return [tuple([marks[number] for number in numbers]) for numbers in numbered]
+
+
 def _are_marks(marks):
     if not is_listing(marks) or not 1 <= len(marks) <= MOST_MARKS:
         return False

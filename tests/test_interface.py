@@ -22,6 +22,13 @@ FUNCTIONS = {
     "lots": {"same_lot": "table one other", "fewest": "table one other", "shows_fewest": "table one other thing"},
     "numbers": {"lot_size": "table row", "number_of": "table row", "row_at": "table row number",
                 "lots_of": "table places", "left_by": "table places word"},
+    "going": {"all_rows": "table row *most=MOST", "far_rows": "table row *most=MOST",
+              "shows_never": "table one other thing"},
+    "carriers": {"through": "table mark row", "through_from_behind": "table mark row",
+                 "crowd_through": "table crowd row", "through_again": "table mark row times"},
+    "rowmaps": {"row_map": "table row *behind=False", "all_row_maps": "table *behind=False"},
+    "likes": {"alike_lots": "table", "well_fault": "table", "made_one": "table"},
+    "levels": {"levels": "table", "level_rows": "table row", "elders": "table row"},
     "leavers": {"leaving": "table row", "makers": "table row", "shows_makers": "table row thing"},
 }
 METHODS = {
@@ -50,6 +57,10 @@ class Interface(unittest.TestCase):
             for name, arguments in functions.items():
                 self.assertEqual(told(there[name]), arguments, name)
                 self.assertEqual(there[name].args.defaults, [])
+                # Each argument may be handed in by its name, and nothing else may.
+                self.assertEqual(there[name].args.posonlyargs, [])
+                self.assertIsNone(there[name].args.vararg)
+                self.assertIsNone(there[name].args.kwarg)
 
     def test_methods(self):
         for (file, name), methods in METHODS.items():

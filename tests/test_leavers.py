@@ -9,7 +9,7 @@ from passmarks.passes import row_behind
 from passmarks.plainrows import plain
 from passmarks.words import told_form
 from tests.things import (Refusing, anything, crossing, exchange, gentle_threes, mirrored, ringed, second_given,
-                          standing, summed, swap_unlike_first, two_mark_tables)
+                          standing, summed, swap_unlike_first, two_mark_tables, ungentle)
 
 CALLS = (leaving, makers, lambda table, row: shows_makers(table, row, None))
 
@@ -159,11 +159,10 @@ class Refused(Refusing):
                 self.refused(NotTwice(twice_fault(table)), call, table, ())
 
     def test_all_tables_of_two_marks(self):
-        kinds = ((three_fault, NotThree), (sided_fault, NotSided), (twice_fault, NotTwice))
         for table in two_mark_tables():
-            due = [error(fault(table)) for fault, error in kinds if fault(table) is not None]
+            due = ungentle(table)
             for call in CALLS:
-                self.refused(due[0] if due else NoRow(1), call, table, ("a", "q", "q"))
+                self.refused(due or NoRow(1), call, table, ("a", "q", "q"))
 
     def test_rows_of_anything(self):
         for call in CALLS:

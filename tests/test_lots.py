@@ -8,7 +8,7 @@ from passmarks.passes import row_behind
 from passmarks.plainrows import plain, row_of_plain
 from passmarks.words import who_pass
 from tests.things import (Refusing, anything, crossing, exchange, far_by_going, gentle_threes, mirrored, ringed,
-                          second_given, standing, summed, swap_unlike_first, two_mark_tables)
+                          second_given, standing, summed, swap_unlike_first, two_mark_tables, ungentle)
 
 CALLS = (same_lot, fewest, lambda table, one, other: shows_fewest(table, one, other, None))
 
@@ -175,11 +175,10 @@ class Refused(Refusing):
         self.refused(NotTwice(("a", "a")), same_lot, ringed(6, 1, 1), ("a",), ("a",))
 
     def test_all_tables_of_two_marks(self):
-        kinds = ((three_fault, NotThree), (sided_fault, NotSided), (twice_fault, NotTwice))
         for table in two_mark_tables():
-            due = [error(fault(table)) for fault, error in kinds if fault(table) is not None]
+            due = ungentle(table)
             for call in CALLS:
-                self.refused(due[0] if due else NoRow(2), call, table, ("a", "b", "q"), 7)
+                self.refused(due or NoRow(2), call, table, ("a", "b", "q"), 7)
 
     def test_rows_of_anything(self):
         for call in CALLS:

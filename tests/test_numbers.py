@@ -7,7 +7,7 @@ from passmarks.numbers import left_by, lot_size, lots_of, number_of, row_at
 from passmarks.passes import row_behind
 from passmarks.plainrows import plain
 from tests.things import (Refusing, anything, crossing, exchange, far_by_going, gentle_threes, mirrored, remarked,
-                          ringed, second_given, standing, summed, swap_unlike_first, two_mark_tables)
+                          ringed, second_given, standing, summed, swap_unlike_first, two_mark_tables, ungentle)
 
 ROW_CALLS = (lot_size, number_of, lambda table, row: row_at(table, row, None))
 PLACES_CALLS = (lots_of, lambda table, places: left_by(table, places, None))
@@ -126,16 +126,15 @@ class Refused(Refusing):
                 self.refused(NotTwice(twice_fault(table)), call, table, ())
 
     def test_all_tables_of_two_marks(self):
-        kinds = ((three_fault, NotThree), (sided_fault, NotSided), (twice_fault, NotTwice))
         for table in two_mark_tables():
-            due = [error(fault(table)) for fault, error in kinds if fault(table) is not None]
+            due = ungentle(table)
             for call in ROW_CALLS:
-                self.refused(due[0] if due else NoRow(0), call, table, ("q",))
+                self.refused(due or NoRow(0), call, table, ("q",))
             for call in PLACES_CALLS:
                 self.refused(NoNumber(61), call, table, 61)
             if due:
-                self.refused(due[0], lots_of, table, 60)
-            self.refused(due[0] if due else NoWord(-1), left_by, table, 60, None)
+                self.refused(due, lots_of, table, 60)
+            self.refused(due or NoWord(-1), left_by, table, 60, None)
 
     def test_rows_of_anything(self):
         for call in ROW_CALLS:

@@ -4,7 +4,8 @@ import unittest
 from functools import lru_cache
 from itertools import permutations, product
 
-from passmarks.errors import NoMark, NotAlike
+from passmarks.errors import NoMark, NotAlike, NotSided, NotThree, NotTwice
+from passmarks.faults import sided_fault, three_fault, twice_fault
 from passmarks.tables import Table
 
 
@@ -75,6 +76,33 @@ def summed(many):
     return table_of(marks, lambda x, y: (marks[(marks.index(x) + marks.index(y)) % many], x))
 
 
+def parted():
+    """a and b are alike, but it is of matter which of them passes c: not well told made one."""
+    return table_of(["a", "b", "c"], lambda x, y: (y, "c" if (x, y) == ("b", "c") else x))
+
+
+def parted_below():
+    """c and d are alike, and made one a and b are, as in parted()."""
+    def rule(x, y):
+        first, second = "abcc"["abcd".index(x)], "abcc"["abcd".index(y)]
+        ahead, behind = parted().passed(first, second)
+        return ("d" if (first, second) == ("b", "c") else ahead, behind)
+    return table_of(["a", "b", "c", "d"], rule)
+
+
+def mapped(firsts, seconds):
+    """Of marks by numbers x makes y the mark number firsts[x][y], and is made by it that number seconds[y][x]."""
+    marks = letters(len(firsts))
+    return Table(marks, [[(marks[firsts[x][y]], marks[seconds[y][x]]) for y in range(len(marks))]
+                         for x in range(len(marks))])
+
+
+# By going through, row by row, these make just 2000 and 2001 maps of six marks.
+TWO_THOUSAND = ((3, 2, 0, 5, 1, 2), (0, 3, 1, 4, 5, 0)) + ((3, 2, 0, 5, 1, 2),) * 4
+ONE_MORE = ((0, 1, 4, 5, 5, 3), (4, 1, 5, 5, 4, 3), (0, 2, 4, 1, 0, 2), (1, 5, 3, 4, 4, 4), (4, 3, 1, 1, 1, 1),
+            (2, 4, 0, 4, 3, 0))
+
+
 @lru_cache(maxsize=None)
 def sided_threes():
     """All tables of the marks a, b, c that are THREE and SIDED, found by going through all that are SIDED."""
@@ -104,6 +132,14 @@ def gentle_threes():
     """All tables of the marks a, b, c that are gentle."""
     return [table for table in sided_threes()
             if all(table.passed(*table.passed(*pair)) == pair for pair in product("abc", repeat=2))]
+
+
+def ungentle(table):
+    """The refusal that is due first of a table that isn't gentle, None of a gentle one."""
+    for fault, error in ((three_fault, NotThree), (sided_fault, NotSided), (twice_fault, NotTwice)):
+        if fault(table) is not None:
+            return error(fault(table))
+    return None
 
 
 def far_by_going(table, row):
