@@ -1,6 +1,6 @@
 """What a table lacks to be THREE, TWICE, ONE-ONE or SIDED; None where it lacks nothing."""
 
-from passmarks.errors import NotSided, NotThree, NotTwice
+from passmarks.errors import NotOneOne, NotSided, NotThree, NotTwice
 from passmarks.tables import all_pairs, pass_done
 
 
@@ -48,6 +48,18 @@ def sided_fault(table):
             if table.passed(held, one)[0] == table.passed(held, other)[0]:
                 return ("first", held, one, other)
     return None
+
+
+def is_gentle(table):
+    """Whether a table is THREE, SIDED and TWICE."""
+    return three_fault(table) is None and sided_fault(table) is None and twice_fault(table) is None
+
+
+def refuse_unless_one_one(table):
+    """Passes of tables that aren't ONE-ONE can't be undone."""
+    fault = one_fault(table)
+    if fault is not None:
+        raise NotOneOne(fault)
 
 
 def refuse_unless_sided(table):

@@ -48,6 +48,19 @@ def all_pairs(table):
     return [(x, y) for x in marks for y in marks]
 
 
+def all_passed(table):
+    """What a pass makes of each pair of marks: a dict, for those who go through very many passes."""
+    return {pair: table.passed(*pair) for pair in all_pairs(table)}
+
+
+def word_done(passed, row, word):
+    """The row behind a word, by a dict of what passes make; all is taken as it is, unlooked at."""
+    now = list(row)
+    for place in word:
+        now[place], now[place + 1] = passed[now[place], now[place + 1]]
+    return tuple(now)
+
+
 def rising(table, rows):
     """The rows, rising by the marks' order."""
     marks = table.marks()

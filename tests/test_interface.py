@@ -29,6 +29,13 @@ FUNCTIONS = {
     "rowmaps": {"row_map": "table row *behind=False", "all_row_maps": "table *behind=False"},
     "likes": {"alike_lots": "table", "well_fault": "table", "made_one": "table"},
     "levels": {"levels": "table", "level_rows": "table row", "elders": "table row"},
+    "maps": {"all_maps": "one other", "renamings": "one other", "parts": "table"},
+    "maptrees": {"map_tree": "one other *named=False", "shows_map_tree": "one other thing *named=False"},
+    "kin": {"named": "table names", "turned": "table", "undone_table": "table", "part_of": "table marks",
+            "beside": "one other", "product": "one other names"},
+    "far": {"row_again": "table row word times", "order_again": "places word times", "round_of": "table row word"},
+    "texts": {"show_table": "table", "show_row": "row", "show_word": "word", "read_table": "text",
+              "read_row": "table text", "read_word": "text"},
     "leavers": {"leaving": "table row", "makers": "table row", "shows_makers": "table row thing"},
 }
 METHODS = {

@@ -7,7 +7,8 @@ import re
 import unittest
 
 PACKAGE = pathlib.Path(__file__).resolve().parent.parent / "passmarks"
-LIBRARY = {"math": {"gcd", "lcm", "isqrt", "comb", "perm", "factorial"}}
+LIBRARY = {"math": {"gcd", "lcm", "isqrt", "comb", "perm", "factorial"},
+           "itertools": {"combinations", "permutations", "product"}}
 BUILTINS = set(
     "len range enumerate zip min max sum abs sorted reversed int str bool list tuple dict set isinstance ord repr"
     " any all divmod ValueError KeyError IndexError LookupError ArithmeticError RuntimeError".split())
