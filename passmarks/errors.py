@@ -1,16 +1,6 @@
 """The refusals: what is raised where something that is handed in is not as told."""
 
-
-def copied(thing):
-    """The same thing, made of lists, tuples and dicts of its own."""
-    if isinstance(thing, list):
-        return [copied(part) for part in thing]
-    if isinstance(thing, tuple):
-        return tuple([copied(part) for part in thing])
-    if isinstance(thing, dict):
-        return {key: copied(thing[key]) for key in thing}
-    return thing
-
+from passmarks.copies import copied
 
 # Each class stands straight under Python's own, so none can take these methods from a common one.
 # The message never shows a field: a field may be anything, also what has no short text.

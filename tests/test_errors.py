@@ -4,7 +4,8 @@ import pickle
 import unittest
 
 from passmarks import errors
-from tests.things import anything, exchange
+from passmarks.desk import Desk
+from tests.things import a_yard, anything, exchange
 
 TOLD = (
     (ValueError, (
@@ -60,6 +61,17 @@ class Fields(unittest.TestCase):
             handed[2][0]["a"].append(4)
             handed[2][0]["b"] = 4
             self.assertEqual(getattr(made, field), [1, [2], ({"a": [3]},)])
+
+    def test_what_is_kept_of_yards_and_desks_is_a_copy(self):
+        for kind, field in FIELDED:
+            yard, desk = a_yard(), Desk(a_yard())
+            made = kind([yard, {"a": (desk,)}])
+            yard.do(("drop", "r"))
+            desk.say("drop r")
+            kept = getattr(made, field)
+            self.assertTrue(kept == [a_yard(), {"a": (Desk(a_yard()),)}])
+            kept[0].undo()
+            self.assertEqual(yard.names(), ["t"])
 
     def test_what_is_kept_beside_the_field_is_no_handed_list(self):
         for kind, _ in FIELDED:

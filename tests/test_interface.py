@@ -36,11 +36,25 @@ FUNCTIONS = {
     "far": {"row_again": "table row word times", "order_again": "places word times", "round_of": "table row word"},
     "texts": {"show_table": "table", "show_row": "row", "show_word": "word", "read_table": "text",
               "read_row": "table text", "read_word": "text"},
+    "hidden": {"count_begun": "table holes word seen", "all_begun": "table holes word seen",
+               "marks_begun": "table holes word seen", "can_stand": "table holes word seen passes place",
+               "is_sure": "table holes word seen sight"},
+    "treelooks": {"tree_of": "table holes word seen", "shows_tree": "table holes word seen thing",
+                  "boxes_of": "table holes word seen", "shows_boxes": "table holes word seen thing"},
+    "blame": {"blame_of": "table holes word seen", "shows_blame": "table holes word seen thing"},
+    "yardtexts": {"show_yard": "yard", "read_yard": "text"},
     "leavers": {"leaving": "table row", "makers": "table row", "shows_makers": "table row thing"},
 }
 METHODS = {
     ("tables", "Table"): {"__init__": "self marks pairs", "__eq__": "self other", "marks": "self", "pairs": "self",
                           "passed": "self one other"},
+    ("yard", "Yard"): {"__init__": "self", "__eq__": "self other", "do": "self deed", "run": "self deeds",
+                       "undo": "self", "redo": "self", "names": "self", "table": "self name",
+                       "table_of": "self name", "holes": "self name", "hidden": "self name", "gone": "self name",
+                       "looks": "self name", "order": "self name", "deeds": "self", "many": "self name",
+                       "beginnings": "self name", "boxes": "self name", "can": "self name place",
+                       "now": "self name", "plain": "self name", "apart": "self one other"},
+    ("desk", "Desk"): {"__init__": "self yard", "say": "self row", "yard": "self"},
 }
 
 

@@ -4,9 +4,11 @@ import unittest
 from functools import lru_cache
 from itertools import permutations, product
 
+from passmarks.desk import Desk
 from passmarks.errors import NoMark, NotAlike, NotSided, NotThree, NotTwice
 from passmarks.faults import sided_fault, three_fault, twice_fault
 from passmarks.tables import Table
+from passmarks.yard import Yard
 
 
 def table_of(marks, rule):
@@ -200,4 +202,15 @@ def anything():
         nested(9), nested(10),
         exchange(1), exchange(2), [exchange(1)], (exchange(1),), {"a": exchange(1)},
         NoMark("a"), NotAlike(), (NoMark(["a"]),),
+        Yard(), a_yard(), [a_yard()], Desk(), Desk(a_yard()),
     ]
+
+
+def a_yard():
+    """A yard in which something is done and something taken back."""
+    yard = Yard()
+    yard.run([("table", "t", exchange(2)), ("row", "r", "t", ("a", None, "b"))])
+    yard.do(("pass", "r", 1))
+    yard.do(("look", "r", 0, "a"))
+    yard.undo()
+    return yard
